@@ -1,0 +1,1 @@
+"""Pointsenough: a big reckoning made sure by asking few points."""

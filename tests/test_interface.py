@@ -1,0 +1,33 @@
+"""The interface: each function stands in the file under which the document lists it, with its arguments."""
+
+import importlib
+import unittest
+
+ARGUMENTS = {
+    "numbers": {"is_prime": "value", "inverse": "p number", "power": "p number times"},
+    "lines": {
+        "is_line": "p value", "at": "p line place", "plus": "p one other", "minus": "p one other",
+        "times": "p one other", "scaled": "p line number", "divided": "p one other", "through": "p points",
+        "with_noughts": "p places", "led": "p line low step", "noughts": "p line",
+    },
+    "tables": {
+        "is_table": "p value", "row_of": "names index", "index_of": "row", "spread": "p table point",
+        "alike": "p one other", "whole": "p table", "behind": "p one other", "weights": "p point",
+        "held": "p table number", "spread_noughts": "p table",
+    },
+}
+
+
+class InterfaceTest(unittest.TestCase):
+    def test_functions_and_their_arguments(self):
+        for file, functions in ARGUMENTS.items():
+            module = importlib.import_module("pointsenough." + file)
+            for name, arguments in functions.items():
+                function = getattr(module, name)
+                self.assertEqual(function.__module__, module.__name__, name)
+                code = function.__code__
+                self.assertEqual(code.co_varnames[:code.co_argcount], tuple(arguments.split()), name)
+
+
+if __name__ == "__main__":
+    unittest.main()

@@ -1,0 +1,124 @@
+"""The rules of the language subset that can be seen in the files of the package."""
+
+import ast
+import builtins
+import unittest
+from pathlib import Path
+
+PACKAGE = Path(__file__).resolve().parent.parent / "pointsenough"
+LIBRARY = {
+    "heapq": {"heappush", "heappop", "heapify", "heapreplace", "heappushpop"},
+    "math": {"gcd", "lcm", "isqrt", "comb", "perm", "factorial"},
+    "itertools": {
+        "product", "combinations", "permutations", "chain", "accumulate", "pairwise", "islice", "zip_longest"},
+    "collections": {"defaultdict"},
+    "__future__": {"annotations"},
+}
+USED_BUILTINS = set("""
+len range enumerate zip min max sum abs sorted reversed int str bool bytes list tuple dict set frozenset isinstance ord
+repr any all divmod pow getattr hasattr setattr iter next map super property staticmethod classmethod object float
+Exception ValueError TypeError KeyError IndexError LookupError ZeroDivisionError ArithmeticError OverflowError
+RuntimeError NotImplementedError AttributeError StopIteration NotImplemented
+""".split())
+FORBIDDEN = (ast.Global, ast.AsyncFunctionDef, ast.Await, ast.AsyncFor, ast.AsyncWith, ast.Div, ast.MatMult)
+
+
+def package_files():
+    return sorted(path for path in PACKAGE.rglob("*") if "__pycache__" not in path.parts and path.is_file())
+
+
+def defined_names(tree):
+    told = set()
+    for node in tree.body:
+        if isinstance(node, (ast.FunctionDef, ast.ClassDef)):
+            told.add(node.name)
+        elif isinstance(node, ast.Assign):
+            told.update(target.id for target in node.targets)
+        elif isinstance(node, ast.AnnAssign):
+            told.add(node.target.id)
+    return told
+
+
+class LanguageTest(unittest.TestCase):
+    @classmethod
+    def setUpClass(cls):
+        cls.texts = {path: path.read_text(encoding="utf-8") for path in package_files()}
+        cls.trees = {path: ast.parse(text) for path, text in cls.texts.items()}
+        cls.defined = {path.stem: defined_names(tree) for path, tree in cls.trees.items()}
+
+    def nodes(self):
+        for path, tree in self.trees.items():
+            for node in ast.walk(tree):
+                yield f"{path.name}:{getattr(node, 'lineno', 0)}", path, node
+
+    def test_files(self):
+        self.assertTrue((PACKAGE / "__init__.py").is_file())
+        self.assertLessEqual(len(self.texts), 100)
+        for path in self.texts:
+            self.assertRegex(path.name, r"\A[a-z0-9_]+\.py\Z")
+
+    def test_sizes_and_characters(self):
+        for path, text in self.texts.items():
+            rows = text.removesuffix("\n").split("\n")
+            self.assertLessEqual(len(rows), 399, path.name)
+            for at, row in enumerate(rows, 1):
+                self.assertLessEqual(len(row), 120, (path.name, at))
+                self.assertTrue(all(" " <= sign <= "~" for sign in row), (path.name, at))
+
+    def test_functions_are_short(self):
+        for where, _, node in self.nodes():
+            if isinstance(node, ast.FunctionDef):
+                self.assertLessEqual(node.end_lineno - node.lineno + 1, 40, where)
+
+    def test_imports(self):
+        for where, path, node in self.nodes():
+            if isinstance(node, ast.Import):
+                told = [(alias.name, alias.asname) for alias in node.names]
+                self.assertEqual((path.name, told), ("__main__.py", [("sys", None)]), where)
+            if isinstance(node, ast.ImportFrom):
+                self.assertEqual(node.level, 0, where)
+                names = {alias.name for alias in node.names}
+                folder, _, file = node.module.partition(".")
+                if folder == "pointsenough":
+                    self.assertLessEqual(names, self.defined[file], where)
+                else:
+                    self.assertLessEqual(names, LIBRARY[node.module], where)
+
+    def test_no_two_files_import_from_each_other(self):
+        ahead = {}
+        for _, path, node in self.nodes():
+            if isinstance(node, ast.ImportFrom) and node.module.startswith("pointsenough."):
+                ahead.setdefault(path.stem, set()).add(node.module.partition(".")[2])
+        for start in ahead:
+            reached, waiting = set(), list(ahead[start])
+            while waiting:
+                file = waiting.pop()
+                if file not in reached:
+                    reached.add(file)
+                    waiting.extend(ahead.get(file, ()))
+            self.assertNotIn(start, reached)
+
+    def test_nothing_forbidden(self):
+        for where, _, node in self.nodes():
+            self.assertNotIsInstance(node, FORBIDDEN, where)
+            if isinstance(node, ast.Constant):
+                self.assertNotIsInstance(node.value, (float, complex), where)
+                if isinstance(node.value, str):
+                    self.assertNotIn("%", node.value, where)
+
+    def test_builtins(self):
+        barred = set(dir(builtins)) - USED_BUILTINS
+        for where, path, node in self.nodes():
+            if isinstance(node, ast.Name):
+                if path.name != "__main__.py" or node.id not in ("print", "__name__"):
+                    self.assertNotIn(node.id, barred, where)
+                if isinstance(node.ctx, ast.Store):
+                    self.assertNotIn(node.id, dir(builtins), where)
+            if isinstance(node, ast.arg):
+                self.assertNotIn(node.arg, dir(builtins), where)
+            if isinstance(node, (ast.FunctionDef, ast.ClassDef)) and not node.name.startswith("__"):
+                self.assertNotIn(node.name, dir(builtins), where)
+
+
+if __name__ == "__main__":
+    unittest.main()

@@ -1,0 +1,118 @@
+"""Point [1]: the order of the errors of one call, and that calls leave nothing behind."""
+
+import unittest
+from itertools import combinations
+
+from pointsenough import errors, lines, numbers, tables
+from tests.support import BIG, HUGE, PointCase, exact
+
+LONGEST = (1,) * 200
+
+BAD_P = (None, True, "7", 9, 3, [7], HUGE)
+BAD_NUMBER = (None, True, 7, -1, "1", (1,), [1], HUGE)
+BAD_LINE = (None, (0,), (1, 0), (7,), [1, 2], (True,), {0: 1}, (1,) * 201, 1)
+BAD_PAIRS = (None, ((1,),), ((1, 7),), [(1, 2)], {1: 2}, ((1, 1), (1, 1), 1), ((0, 0),) * 61, 5)
+BAD_PLACES = (None, (7,), (True,), [1], "12", (1,) * 61, 3)
+BAD_TABLE = (None, (), (1, 2, 3), (7,), [1, 2], (False, 1), {0: 1}, (1,) * 2048, 1)
+BAD_POINT = (None, (7,), [1], (True,), "1", (1,) * 25, {}, 1)
+
+# Each call: the function, right arguments, and for each argument wrong values and their error.
+CALLS = (
+    (numbers.inverse, (7, 3), ((BAD_P, "BadPrime"), (BAD_NUMBER, "BadNumber"))),
+    (numbers.power, (7, 3, 2), ((BAD_P, "BadPrime"), (BAD_NUMBER, "BadNumber"), ((-1, None, True, "2"), "BadNumber"))),
+    (lines.at, (7, (1, 2), 3), ((BAD_P, "BadPrime"), (BAD_LINE, "BadLine"), (BAD_NUMBER, "BadNumber"))),
+    (lines.plus, (7, (1,), (2,)), ((BAD_P, "BadPrime"), (BAD_LINE, "BadLine"), (BAD_LINE, "BadLine"))),
+    (lines.minus, (7, (1,), (2,)), ((BAD_P, "BadPrime"), (BAD_LINE, "BadLine"), (BAD_LINE, "BadLine"))),
+    (lines.times, (7, LONGEST, (1,)), ((BAD_P, "BadPrime"), (BAD_LINE, "BadLine"), (BAD_LINE, "BadLine"))),
+    (lines.scaled, (7, (1,), 2), ((BAD_P, "BadPrime"), (BAD_LINE, "BadLine"), (BAD_NUMBER, "BadNumber"))),
+    (lines.divided, (7, (1,), (2,)), ((BAD_P, "BadPrime"), (BAD_LINE, "BadLine"), (BAD_LINE + ((),), None))),
+    (lines.through, (7, ((1, 2),)), ((BAD_P, "BadPrime"), (BAD_PAIRS, "BadPoints"))),
+    (lines.with_noughts, (7, (1, 2)), ((BAD_P, "BadPrime"), (BAD_PLACES, "BadPoints"))),
+    (lines.noughts, (7, (1, 2)), ((BAD_P, "BadPrime"), (BAD_LINE, "BadLine"))),
+    (lines.led, (7, (1, 2), 3, 4), (
+        (BAD_P, "BadPrime"), (BAD_LINE, "BadLine"), (BAD_NUMBER, "BadNumber"), (BAD_NUMBER, "BadNumber"))),
+    (tables.spread, (7, (1, 2), (3,)), ((BAD_P, "BadPrime"), (BAD_TABLE, "BadTable"), (BAD_POINT + ((),), "BadPoint"))),
+    (tables.weights, (7, (3,)), ((BAD_P, "BadPrime"), (BAD_POINT + ((1,) * 11,), "BadPoint"))),
+    (tables.alike, (7, (1,), (2,)), ((BAD_P, "BadPrime"), (BAD_POINT, "BadPoint"), (BAD_POINT, "BadPoint"))),
+    (tables.behind, (7, (1,), (2,)), ((BAD_P, "BadPrime"), (BAD_POINT, "BadPoint"), (BAD_POINT, "BadPoint"))),
+    (tables.held, (7, (1, 2), 3), (
+        (BAD_P, "BadPrime"), (BAD_TABLE + ((1,),), "BadTable"), (BAD_NUMBER, "BadNumber"))),
+    (tables.whole, (7, (1, 2)), ((BAD_P, "BadPrime"), (BAD_TABLE, "BadTable"))),
+    (tables.spread_noughts, (7, (1, 2)), ((BAD_P, "BadPrime"), (BAD_TABLE, "BadTable"))),
+    (lines.is_line, (7, (1, 2)), ((BAD_P, "BadPrime"), (BAD_LINE, None))),
+    (tables.is_table, (7, (1, 2)), ((BAD_P, "BadPrime"), (BAD_TABLE, None))),
+)
+
+
+class FirstErrorTest(PointCase):
+    def test_several_wrong_arguments(self):
+        for function, right, wrong in CALLS:
+            for many in range(1, len(right) + 1):
+                for which in combinations(range(len(right)), many):
+                    first = wrong[which[0]][1]
+                    if first is not None:
+                        self.check(function, right, wrong, which, getattr(errors, first))
+
+    def check(self, function, right, wrong, which, kind):
+        for turn in range(max(len(wrong[k][0]) for k in which)):
+            handed = list(right)
+            for k in which:
+                values = wrong[k][0]
+                handed[k] = values[(turn + k) % len(values)]
+            self.fails(kind, {}, function, *handed)
+
+    def test_of_one_parameter_in_the_order_told(self):
+        self.fails(errors.BadNumber, {}, numbers.inverse, 7, False)
+        self.fails(errors.Nought, {}, numbers.inverse, 7, 0)
+        self.fails(errors.BadPoints, {}, lines.through, 7, ((1, 1), (1, 1), (1, 7)))
+        self.fails(errors.SamePlace, {"place": 1}, lines.through, 7, ((1, 1), (1, 1), (1, 6)))
+
+    def test_of_several_parameters_behind_those_of_each(self):
+        for function in (tables.alike, tables.behind):
+            self.fails(errors.BadPrime, {}, function, 9, (1, 2), (1,))
+            self.fails(errors.BadPoint, {}, function, 7, (1, 2), (7,))
+            self.fails(errors.BadPoint, {}, function, 7, (7, 1), (1,))
+            self.fails(errors.BadPoint, {}, function, 7, (1,) * 25, (1,))
+            self.fails(errors.UnlikePoints, {}, function, 7, (1, 2), (1,))
+        self.fails(errors.BadLine, {}, lines.divided, 7, (0,), ())
+        self.fails(errors.BadTable, {}, tables.held, 7, (1,), 7)
+        self.fails(errors.BadTable, {}, tables.spread, 7, (1, 2, 3), (1,))
+
+    def test_at_last(self):
+        self.fails(errors.BadLine, {}, lines.times, 7, LONGEST, (1,) * 199 + (7,))
+        self.fails(errors.TooMany, {"most": 200}, lines.times, 7, LONGEST, LONGEST)
+        self.fails(errors.BadLine, {}, lines.noughts, BIG, (0,))
+        self.fails(errors.Nought, {}, lines.noughts, BIG, ())
+        self.fails(errors.TooGreat, {"most": 10007}, lines.noughts, BIG, (1,))
+        self.fails(errors.BadPrime, {}, lines.noughts, BIG + 2, ())
+        self.fails(errors.BadTable, {}, tables.spread_noughts, BIG, (1, 2, 3))
+        self.fails(errors.TooGreat, {"most": 100000}, tables.spread_noughts, BIG, (1, 2))
+        self.fails(errors.BadPrime, {}, tables.spread_noughts, BIG + 2, (1, 2))
+
+
+class NothingKeptTest(PointCase):
+    def test_equal_calls_have_equal_answers_in_any_order(self):
+        calls = [(function, right) for function, right, _ in CALLS]
+        calls += [(function, (11,) + right[1:]) for function, right in calls]
+        calls += [(tables.row_of, (3, 5)), (tables.index_of, ((1, 0, 1),)), (numbers.is_prime, (7,))]
+        calls += [(lines.at, (p, (1, 2, 3), 4)) for p in (5, 7, 11, BIG)]
+        first = [exact(function(*handed)) for function, handed in calls]
+        backward = [exact(function(*handed)) for function, handed in reversed(calls)]
+        self.assertEqual(first, list(reversed(backward)))
+
+    def test_errors_leave_nothing_behind(self):
+        for function, right, wrong in CALLS:
+            before = exact(function(*right))
+            for k, (values, _) in enumerate(wrong):
+                for value in values:
+                    handed = list(right)
+                    handed[k] = value
+                    try:
+                        function(*handed)
+                    except errors.PointError:
+                        pass
+            self.assertEqual(exact(function(*right)), before)
+
+
+if __name__ == "__main__":
+    unittest.main()

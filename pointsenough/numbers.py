@@ -1,4 +1,6 @@
-"""Integers, primes, and numbers by a prime."""
+"""Integers, primes, numbers by a prime, and shares."""
+
+from math import gcd
 
 from pointsenough.errors import BadNumber, BadPrime, Nought
 
@@ -96,3 +98,19 @@ def looks_prime(odd, witness):
             return True
         root = root * root % odd
     return False
+
+
+def share(top, bottom):
+    """The share of two integers, the bottom one above 0."""
+    divisor = gcd(top, bottom)
+    return top // divisor, bottom // divisor
+
+
+def loss_of(p, degrees):
+    """1 less the product of 1 - m / p over the degrees, m being the lesser one of the degree and p - 1."""
+    kept = 1
+    everything = 1
+    for degree in degrees:
+        kept *= p - min(degree, p - 1)
+        everything *= p
+    return share(everything - kept, everything)

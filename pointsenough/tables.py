@@ -149,6 +149,15 @@ def held_at(p, table, number):
     return tuple([(low + (high - low) * number) % p for low, high in zip(table[:half], table[half:])])
 
 
+def held_within(p, table, place, number):
+    """The table with the name at a place put to a number, nothing being checked."""
+    block = len(table) >> place
+    entries = []
+    for start in range(0, len(table), block):
+        entries.extend(held_at(p, table[start:start + block], number))
+    return tuple(entries)
+
+
 def spread_at(p, table, point):
     """The value of a table's spread at a point of as many numbers, nothing being checked."""
     rest = table

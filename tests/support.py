@@ -17,10 +17,8 @@ def nested(deep, make):
 
 
 def exact(told):
-    """A value with the kinds of all its parts, so that 1, True, [1] and (1,) are all unlike."""
-    if isinstance(told, (tuple, list)):
-        return (type(told).__name__, [exact(part) for part in told])
-    return (type(told).__name__, told)
+    """What tells a plain value with the kinds of all its parts: 1, True, [1] and (1,) are all unlike."""
+    return repr(told)
 
 
 def any_values():
@@ -105,6 +103,177 @@ def wrong_points(p, most):
         0, 1, HUGE, (p,), (1, p), (p, 1), (1, p + 1), (-p,), (1,) * (most + 1), (0,) * (most + 2), (1,) * 200,
         (1,) * (most - 1) + (p,), ((1, 2),),
     ]
+
+
+NUMBER = ("number", 1)
+
+
+def plus_tree(leaves):
+    """The rule that adds up rules, by twos, so that it stays flat."""
+    parts = list(leaves)
+    while len(parts) > 1:
+        pairs = [("plus", one, other) for one, other in zip(parts[::2], parts[1::2])]
+        parts = pairs + parts[2 * len(pairs):]
+    return parts[0]
+
+
+def deep_rule(within, leaf):
+    """A rule with so many tuples within one another."""
+    rule = leaf
+    for _ in range(within - 1):
+        rule = ("plus", rule, leaf)
+    return rule
+
+
+def shared_rule(times):
+    """A rule of few objects that has 2 ** (times + 1) - 1 tuples (beware of showing great ones)."""
+    rule = NUMBER
+    for _ in range(times):
+        rule = ("plus", rule, rule)
+    return rule
+
+
+def wrong_leaves(p, many):
+    """What is no rule in so many names, without joins around it."""
+    return [
+        (), ("number",), ("name",), ("plus",), ("table",), ("number", p), ("number", p + 1), ("number", -1),
+        ("number", HUGE), ("number", True), ("number", False), ("number", None), ("number", "1"), ("number", (1,)),
+        ("number", [1]), ("number", 1, 1), ("number", 1, ()), ["number", 1], ("Number", 1), (1, "number"), (b"number", 1),
+        ("name", many), ("name", many + 1), ("name", -1), ("name", HUGE), ("name", True), ("name", False),
+        ("name", None), ("name", "0"), ("name", (0,)), ("name", [0]), ("name", 0, 0), ["name", 0], ("", 0), (None, 0),
+        ("plus", NUMBER), ("plus", 1), ("minus", NUMBER, NUMBER, NUMBER), ("times",), ["plus", NUMBER, NUMBER],
+        ("over", NUMBER, NUMBER), ("and", NUMBER, NUMBER), (NUMBER, NUMBER, NUMBER), (0, NUMBER, NUMBER),
+        ("number", NUMBER, NUMBER), ("name", NUMBER, NUMBER), ("sum", NUMBER), (["plus"], NUMBER, NUMBER),
+        ("table", (1,)), ("table", (1,), (), ()), ("table", (1, 2), ()), ("table", (1,), (NUMBER,)),
+        ("table", (1, 2), (NUMBER, NUMBER)), ("table", (1, 2, 3, 4), (NUMBER,)), ("table", (), ()),
+        ("table", (1, 2, 3), (NUMBER, NUMBER)), ("table", [1, 2], (NUMBER,)), ("table", (1, 2), [NUMBER]),
+        ("table", (1, p), (NUMBER,)), ("table", (1, True), (NUMBER,)), ("table", (-1, 1), (NUMBER,)),
+        ("table", (1, 2), (("number", p),)), ("table", (1, 2), (("number", True),)), ("table", (1, 2), (("name", many),)),
+        ("table", (1, 2), (("name", False),)), ("table", (1, 2), (("name", -1),)), ("table", (1, 2), (1,)),
+        ("table", (1, 2), (None,)), ("table", (1, 2), ("name",)), ("table", (1, 2), (["number", 1],)),
+        ("table", (1, 2), (("plus", NUMBER, NUMBER),)), ("table", (1, 2), (("table", (1,), ()),)), ("table", 1, ()),
+        ("table", (1, 2), NUMBER), ("table", (1, 2), (("number",),)), ("table", (1, 2), (("number", 1, 1),)),
+        ("table", (1, 2, 3, 4), (NUMBER, ("name", many))), ("table", (1,) * 2048, (NUMBER,) * 11),
+        ["table", (1, 2), (NUMBER,)], ("tables", (1, 2), (NUMBER,)), ("", (1,), ()), (None, (1, 2), (NUMBER,)),
+        ("table", (1, 2), {0: NUMBER}), ("table", "12", (NUMBER,)), ("table", (1,), None),
+    ]
+
+
+def wrong_rules(p, many):
+    """What is no rule in so many names."""
+    leaves = any_values() + bad_tuples() + [0, 1, HUGE, -1] + wrong_leaves(p, many)
+    joined = [("plus", NUMBER, leaf) for leaf in leaves] + [("times", leaf, NUMBER) for leaf in leaves[::2]]
+    joined += [("minus", ("plus", NUMBER, leaf), NUMBER) for leaf in leaves[::3]]
+    large = [plus_tree([NUMBER] * 1001), deep_rule(401, NUMBER), deep_rule(402, NUMBER), shared_rule(10)]
+    return leaves + joined + large + [("plus", deep_rule(400, NUMBER), NUMBER)]
+
+
+def wrong_many(most):
+    """What is no number of names from 0 to most."""
+    return any_values() + bad_tuples() + [-HUGE, -1, most + 1, most + 2, HUGE, (), (1,), (0, 1)]
+
+
+def wrong_sums():
+    """What is no sum, or none any more by one of its four parts."""
+    rule = ("times", ("name", 0), ("name", 1))
+    told = any_values() + bad_tuples() + [0, 7, HUGE, (), (7,), (7, 2, rule), (7, 2, rule, 5, 5), [7, 2, rule, 5]]
+    told += [{0: 7, 1: 2, 2: rule, 3: 5}, ((7, 2, rule, 5),), (2, 7, rule, 5)]
+    told += [(p, 2, rule, 1) for p in wrong_primes()]
+    told += [(7, many, NUMBER, 5) for many in wrong_many(10)] + [(7, 1, rule, 5), (7, 0, rule, 5)]
+    told += [(7, 2, wrong, 5) for wrong in wrong_rules(7, 2)]
+    told += [(7, 2, rule, claim) for claim in wrong_numbers(7)]
+    told += [(7, 2, power_rule(31), 5), (7, 2, power_rule(64), 5), (7, 2, ("plus", power_rule(31), rule), 5)]
+    told += [(7, 1, ("times", power_rule(16), power_rule(15)), 5), (5, 1, ("minus", NUMBER, power_rule(31)), 1)]
+    return told
+
+
+def wrong_draws(p, many):
+    """What are no draws of just so many numbers."""
+    lengths = [length for length in (0, 1, 2, 3, 4, 9, 10, 11, 30) if length != many]
+    told = [value for value in any_values() + bad_tuples() + [0, 1, p, HUGE, (p,) * many, [1] * many] if value != ()]
+    if many > 0:
+        told += [(1,) * (many - 1) + (wrong,) for wrong in wrong_numbers(p)]
+    return told + [(1,) * length for length in lengths]
+
+
+def wrong_answerers(p, many):
+    """What is no answerer for a sum of so many names, two at least."""
+    line = (1, 2)
+    told = any_values() + bad_tuples() + [0, 1, HUGE, (), ("",), ("Plain",), ("worst",), ("by",), (None,), (("plain",),)]
+    told += ["plain", "best", ["plain"], ["best"], {"plain": ()}, ("plain", ()), ("best", ()), ("even", None)]
+    told += [("plain", "best"), ("by", (), ()), ("by", None), ("by", []), ("by", {}), ("by", ""), ("by", 1), ("BY", ())]
+    told += [["by", ()], ("by", [((), line)]), ("by", {(): line}), ("by", ((), line)), ("best", (((), line),))]
+    pairs = [(), ((),), ((), line, ()), [(), line], ((), [1, 2]), ([], line), (1, line), (None, line), line, "ab"]
+    pairs += [((), wrong) for wrong in wrong_lines(p)] + [((wrong,), line) for wrong in wrong_numbers(p)]
+    pairs += [((1,) * many, line), ((1,) * (many + 1), line), (line, ())[::-1] + (line,), {(): line}, {0: (), 1: line}]
+    told += [("by", (pair,)) for pair in pairs if pair != ((), ())]
+    told += [("by", (((), line), pair)) for pair in pairs]
+    told += [("by", (((), line), ((), line))), ("by", (((), line), ((), (1,)))), ("by", (((1,), line), ((), line)))]
+    told += [("by", (((1,), line), ((1,), line))), ("by", (((2,), line), ((1,), line)))]
+    told += [("by", (((0,), line), ((1,), line), ((0,), line))), ("by", (((0,), line), ((2,), line), ((1,), line)))]
+    return told
+
+
+def wrong_texts():
+    """What is no text."""
+    return [value for value in any_values() + bad_tuples() if not isinstance(value, str)] + [
+        0, 1, HUGE, b"line 1", (), ("line 1",), ["line 1", "draw 1"],
+    ]
+
+
+def power_rule(degree):
+    """The first name, so many times a factor, by twos, so that it stays flat."""
+    if degree == 0:
+        return NUMBER
+    if degree == 1:
+        return ("name", 0)
+    return ("times", power_rule(degree // 2), power_rule(degree - degree // 2))
+
+
+def rule_for(p, many, seed, deep):
+    """A rule that looks drawn, with joins of all kinds, its leaves deep within."""
+    kind, first, second, names = numbers_for(1000003, seed * 31 + deep, 4)
+    if deep == 0 or kind % 7 == 0:
+        return leaf_for(p, many, kind, first, second, names)
+    word = ("plus", "minus", "times")[kind % 3]
+    return (word, rule_for(p, many, seed * 2 + 1, deep - 1), rule_for(p, many, seed * 2 + 2, deep - 1))
+
+
+def leaf_for(p, many, kind, first, second, names):
+    def place(k):
+        return ("name", (first + k) % many) if many > 0 and (second >> k) % 3 > 0 else ("number", (first + k) % p)
+    if names % 3 == 0:
+        size = names % 4
+        return ("table", numbers_for(p, second, 2 ** size), tuple(place(k) for k in range(size)))
+    return place(0)
+
+
+def plain_rule(p, rule, point):
+    """The value of a rule at a point, by its words."""
+    word = rule[0]
+    if word == "number":
+        return rule[1]
+    if word == "name":
+        return point[rule[1]]
+    if word == "table":
+        return plain_spread(p, rule[1], tuple(plain_rule(p, place, point) for place in rule[2]))
+    one, other = plain_rule(p, rule[1], point), plain_rule(p, rule[2], point)
+    return {"plus": one + other, "minus": one - other, "times": one * other}[word] % p
+
+
+def plain_degrees(many, rule):
+    """The told degrees of a rule, by its words."""
+    word = rule[0]
+    if word in ("number", "name", "table"):
+        places = rule[2] if word == "table" else (rule,)
+        return tuple(sum(1 for place in places if place == ("name", name)) for name in range(many))
+    one, other = plain_degrees(many, rule[1]), plain_degrees(many, rule[2])
+    return tuple(a + b if word == "times" else max(a, b) for a, b in zip(one, other))
+
+
+def plain_rows_sum(p, many, rule, ahead):
+    """The sum of a rule's values, the first names put to numbers, over all rows of the others."""
+    return sum(plain_rule(p, rule, ahead + row) for row in bits_rows(many - len(ahead))) % p
 
 
 def bits_rows(names):

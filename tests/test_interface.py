@@ -15,6 +15,19 @@ ARGUMENTS = {
         "alike": "p one other", "whole": "p table", "behind": "p one other", "weights": "p point",
         "held": "p table number", "spread_noughts": "p table",
     },
+    "rules": {
+        "is_rule": "p many value", "value": "p many rule point", "sum_of": "p many rule", "told_degrees": "many rule",
+        "put": "p many rule name number", "row_values": "p many rule",
+    },
+    "sums": {
+        "is_sum": "value", "is_so": "claimed", "plain_line": "claimed draws", "judged": "claimed lines draws",
+        "claims": "claimed lines draws", "loss": "claimed", "best_line": "p plain claim degree", "work": "claimed",
+    },
+    "answerers": {
+        "is_answerer": "claimed value", "lines_of": "claimed answerer draws", "share_of": "claimed answerer",
+        "chances": "claimed answerer",
+    },
+    "talks": {"write_talk": "p lines draws", "read_talk": "p text", "heard": "claimed text"},
 }
 
 

@@ -119,6 +119,25 @@ class LanguageTest(unittest.TestCase):
             if isinstance(node, (ast.FunctionDef, ast.ClassDef)) and not node.name.startswith("__"):
                 self.assertNotIn(node.name, dir(builtins), where)
 
+    def test_locals_have_no_name_of_an_import_or_class(self):
+        for path, tree in self.trees.items():
+            taken = {node.name for node in tree.body if isinstance(node, ast.ClassDef)}
+            for node in tree.body:
+                if isinstance(node, ast.ImportFrom):
+                    taken.update(alias.name for alias in node.names)
+            for node in ast.walk(tree):
+                if isinstance(node, ast.Name) and isinstance(node.ctx, ast.Store):
+                    self.assertNotIn(node.id, taken, path.name)
+                if isinstance(node, ast.arg):
+                    self.assertNotIn(node.arg, taken, path.name)
+
+    def test_imports_are_used(self):
+        for path, tree in self.trees.items():
+            used = {node.id for node in ast.walk(tree) if isinstance(node, ast.Name)}
+            for node in tree.body:
+                if isinstance(node, ast.ImportFrom):
+                    self.assertLessEqual({alias.name for alias in node.names}, used, path.name)
+
 
 if __name__ == "__main__":
     unittest.main()

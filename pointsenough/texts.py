@@ -1,0 +1,30 @@
+"""What all texts share: lines with their ends, and numbers in figures."""
+
+from pointsenough.errors import NotText
+
+
+def need_text(value):
+    """Raise NotText for any value that is no text."""
+    if not isinstance(value, str):
+        raise NotText()
+
+
+def ended_lines(text):
+    """The pair (lines, rest): the list of a text's lines without their ends, and what stands behind the last end."""
+    pieces = text.split("\n")
+    return pieces[:-1], pieces[-1]
+
+
+def number_in(word, most):
+    """The integer from 0 to most that a word tells in figures, without needless zeros; None if there is none."""
+    # Words that are too long are left aside unread: Python refuses to read very long ones.
+    if not word.isascii() or not word.isdigit() or len(word) > len(str(most)):
+        return None
+    number = int(word)
+    return number if str(number) == word and number <= most else None
+
+
+def numbers_in(words, most):
+    """The tuple of the integers from 0 to most that words tell, None if one of them tells none."""
+    numbers = [number_in(word, most) for word in words]
+    return None if None in numbers else tuple(numbers)

@@ -2,7 +2,7 @@
 
 from pointsenough.errors import BadAnswerer, TooGreat
 from pointsenough.lines import fits_line, mixed, value_at
-from pointsenough.numbers import all_numbers, inverse_of, share
+from pointsenough.numbers import all_numbers, ascends, inverse_of, share
 from pointsenough.rules import told_degrees
 from pointsenough.sums import best_beside, halves, is_sum, need_draws, need_sum, plain_behind, true_claim, wrong_word
 
@@ -19,7 +19,7 @@ def lines_of(claimed, answerer, draws):
     """The tuple of the lines that an answerer tells, the draws being all."""
     need_sum(claimed)
     need_answerer(claimed, answerer)
-    need_draws(claimed, draws)
+    need_draws(claimed[0], draws, claimed[1])
     book = book_of(answerer)
     so_far = claimed[3]
     lines = []
@@ -63,11 +63,6 @@ def fits_pair(claimed, pair):
         return False
     p = claimed[0]
     return all_numbers(p, pair[0], claimed[1] - 1) and fits_line(p, pair[1])
-
-
-def ascends(items):
-    """Whether each item of a list is greater than the one ahead of it."""
-    return all([one < other for one, other in zip(items, items[1:])])
 
 
 def need_answerer(claimed, value):

@@ -52,6 +52,16 @@ def all_numbers(p, value, most):
     return all([in_bounds(item, 0, p - 1) for item in value])
 
 
+def so_many_numbers(p, value, many):
+    """Whether any value is a tuple of just so many numbers."""
+    return all_numbers(p, value, many) and len(value) == many
+
+
+def ascends(items):
+    """Whether each item of a list or tuple is greater than the one ahead of it."""
+    return all([one < other for one, other in zip(items, items[1:])])
+
+
 def need_prime(p):
     """Raise BadPrime for any value that is no prime."""
     if not is_prime(p):

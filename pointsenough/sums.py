@@ -2,7 +2,8 @@
 
 from pointsenough.errors import BadDegree, BadDraws, BadSum
 from pointsenough.lines import fits_line, mixed, multiplied, need_line, nought_at, through, value_at
-from pointsenough.numbers import all_numbers, in_bounds, inverse_of, is_prime, loss_of, need_number, need_prime
+from pointsenough.numbers import (
+    all_numbers, in_bounds, inverse_of, is_prime, loss_of, need_number, need_prime, so_many_numbers)
 from pointsenough.rules import fits_rule, parts_of, told_degrees, values_behind
 from pointsenough.tables import MOST_NAMES
 
@@ -18,7 +19,7 @@ def is_sum(value):
         return False
     if not fits_rule(p, many, rule) or not in_bounds(claim, 0, p - 1):
         return False
-    return all([degree <= MOST_DEGREE for degree in told_degrees(many, rule)])
+    return small_degrees(many, rule)
 
 
 def is_so(claimed):
@@ -38,7 +39,7 @@ def plain_line(claimed, draws):
 def judged(claimed, lines, draws):
     """What the judge says of any value as lines: ("passed",) or ("caught", round, word)."""
     need_sum(claimed)
-    need_draws(claimed, draws)
+    need_draws(claimed[0], draws, claimed[1])
     told, word = rounds_heard(claimed, lines, draws)
     if word == "":
         word = end_word(claimed, lines, draws, told[-1])
@@ -50,7 +51,7 @@ def judged(claimed, lines, draws):
 def claims(claimed, lines, draws):
     """The tuple of the claims so far, ahead of each round that is come to and behind the last."""
     need_sum(claimed)
-    need_draws(claimed, draws)
+    need_draws(claimed[0], draws, claimed[1])
     told, _ = rounds_heard(claimed, lines, draws)
     return tuple(told)
 
@@ -82,16 +83,20 @@ def work(claimed):
     return (numbers_told, many, len(parts_of(rule))), (numbers_told, rows, many)
 
 
+def small_degrees(many, rule):
+    """Whether the told degrees of a rule are small enough for a sum."""
+    return all([degree <= MOST_DEGREE for degree in told_degrees(many, rule)])
+
+
 def need_sum(value):
     """Raise BadSum for any value that is no sum."""
     if not is_sum(value):
         raise BadSum()
 
 
-def need_draws(claimed, draws):
-    """Raise BadDraws unless draws are numbers for all names of a sum."""
-    many = claimed[1]
-    if not all_numbers(claimed[0], draws, many) or len(draws) != many:
+def need_draws(p, draws, many):
+    """Raise BadDraws unless draws are a tuple of just so many numbers."""
+    if not so_many_numbers(p, draws, many):
         raise BadDraws()
 
 
@@ -130,13 +135,24 @@ def halves(p, line):
     return (value_at(p, line, 0) + value_at(p, line, 1)) % p
 
 
-def wrong_word(p, line, degree, claim):
-    """The word for what is wrong with any value told as a round's line, "" if nothing is."""
+def line_heard(lines, index):
+    """The item of a tuple or list of lines at an index, None behind its end."""
+    return lines[index] if index < len(lines) else None
+
+
+def line_word(p, line, degree):
+    """The word for what is wrong with any value as a line of at most a degree, "" if nothing is."""
     if not fits_line(p, line):
         return "line"
-    if len(line) - 1 > degree:
-        return "degree"
-    return "" if halves(p, line) == claim else "halves"
+    return "degree" if len(line) - 1 > degree else ""
+
+
+def wrong_word(p, line, degree, claim):
+    """The word for what is wrong with any value told as a round's line, "" if nothing is."""
+    word = line_word(p, line, degree)
+    if word == "" and halves(p, line) != claim:
+        return "halves"
+    return word
 
 
 def rounds_heard(claimed, lines, draws):
@@ -147,7 +163,7 @@ def rounds_heard(claimed, lines, draws):
         return told, "line"
     degrees = told_degrees(many, rule)
     for index, draw in enumerate(draws):
-        line = lines[index] if index < len(lines) else None
+        line = line_heard(lines, index)
         word = wrong_word(p, line, degrees[index], told[-1])
         if word != "":
             return told, word

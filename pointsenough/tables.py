@@ -133,9 +133,14 @@ def need_two_points(p, one, other):
         raise UnlikePoints()
 
 
+def bits_of(size):
+    """How many names a table of so many numbers has."""
+    return size.bit_length() - 1
+
+
 def names_of(table):
     """How many names a table has."""
-    return len(table).bit_length() - 1
+    return bits_of(len(table))
 
 
 def like_at(p, left, right):
@@ -158,12 +163,17 @@ def held_within(p, table, place, number):
     return tuple(entries)
 
 
-def spread_at(p, table, point):
-    """The value of a table's spread at a point of as many numbers, nothing being checked."""
+def left_at(p, table, point):
+    """The table of the names that are left when the first ones are put to a point's numbers, nothing being checked."""
     rest = table
     for number in point:
         rest = held_at(p, rest, number)
-    return rest[0]
+    return rest
+
+
+def spread_at(p, table, point):
+    """The value of a table's spread at a point of as many numbers, nothing being checked."""
+    return left_at(p, table, point)[0]
 
 
 def count_noughts(p, table):

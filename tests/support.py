@@ -1,7 +1,8 @@
 """What the tests share: strict comparison, wrong values of each sort, and plain reckoning to compare with."""
 
 import unittest
-from itertools import product
+from fractions import Fraction
+from itertools import combinations, product
 
 from pointsenough import errors
 
@@ -221,6 +222,87 @@ def wrong_texts():
     ]
 
 
+YES = ("yes",)
+
+
+def shared_form(times):
+    """A form of few objects that has 2 ** (times + 1) - 1 tuples (beware of showing great ones)."""
+    form = YES
+    for _ in range(times):
+        form = ("and", form, form)
+    return form
+
+
+def nots(times, leaf):
+    """So many nots ahead of a leaf."""
+    form = leaf
+    for _ in range(times):
+        form = ("not", form)
+    return form
+
+
+def wrong_names():
+    """What are no names of forms."""
+    bad = ["", "A", "a1", "1", "a b", " a", "a ", "aB", "a_b", "_", "a-b", "\u00e4", "\u0430", "\uff41", "abcdefghi", "a\n",
+           "aaaaaaaaaaaa", "yes", "no", "not", "and", "or", "xor", None, True, 0, 1, b"a", ["a"], ("a",), {"a": "b"}]
+    told = [value for value in any_values() if value != ()] + [0, 1, HUGE, "a", "abc", ["a", "b"], {"a": "b"}]
+    told += [(name,) for name in bad] + [("a", name) for name in bad] + [(name, "b", "c") for name in bad]
+    told += [("a", "a"), ("a", "b", "a"), ("ab", "c", "ab"), tuple("abcdefghijk"), tuple("abcdefghija")]
+    return told + [tuple("abcdefghi") + ("and",)]
+
+
+def wrong_forms(many):
+    """What is no tree in so many names."""
+    parts = any_values() + bad_tuples() + [
+        0, 1, HUGE, (), "yes", ["yes"], ("Yes",), ("maybe",), ("yes", ()), ("yes", YES), ("no", "no"), ("name",),
+        ("name", many), ("name", many + 1), ("name", -1), ("name", HUGE), ("name", True), ("name", False),
+        ("name", None), ("name", "a"), ("name", "0"), ("name", (0,)), ("name", [0]), ("name", 0, 0), ["name", 0],
+        ("not",), ("not", YES, YES), ["not", YES], ("not", "yes"), ("not", ["yes"]), ("and",), ("and", YES), ("or", YES),
+        ("and", YES, YES, YES), ("xor", YES, "no"), ["and", YES, YES], ("nand", YES, YES), ("AND", YES, YES), ("", YES),
+        (YES, "and", YES), (YES,), ((),), ("", YES, YES), (None, YES, YES), (["and"], YES, YES), ({}, YES), (b"yes",),
+        ("number", 1), ("and", {0: YES}, YES), ("or", YES, [YES]), ("yes", "no"), ("xor",), ("or", (YES, YES)), ("(", YES),
+    ]
+    joined = [("not", part) for part in parts] + [("and", YES, part) for part in parts]
+    joined += [("xor", part, ("no",)) for part in parts[::2]] + [("or", nots(5, part), YES) for part in parts[::3]]
+    return parts + joined + [nots(200, YES), nots(201, YES), nots(400, YES), shared_form(7), shared_form(8)]
+
+
+def form_for(many, seed, deep):
+    """A tree that looks drawn, with joins of all kinds."""
+    kind, item = numbers_for(1000003, seed * 37 + deep, 2)
+    if deep == 0 or kind % 9 == 0:
+        if many == 0 or item % 7 == 0:
+            return ("yes",) if item % 2 else ("no",)
+        return ("name", item % many)
+    if kind % 9 < 3:
+        return ("not", form_for(many, seed * 2 + 1, deep - 1))
+    word = ("and", "or", "xor")[kind % 3]
+    return (word, form_for(many, seed * 2 + 1, deep - 1), form_for(many, seed * 2 + 2, deep - 1))
+
+
+def plain_form(form, row):
+    """Whether a form is yes at a row, by its words."""
+    word = form[0]
+    if word in ("yes", "no"):
+        return word == "yes"
+    if word == "name":
+        return row[form[1]] == 1
+    parts = [plain_form(part, row) for part in form[1:]]
+    if word == "not":
+        return not parts[0]
+    return {"and": all(parts), "or": any(parts), "xor": parts[0] != parts[1]}[word]
+
+
+def all_forms(many, deep):
+    """All trees in so many names, with so many tuples within one another at most."""
+    leaves = [("yes",), ("no",)] + [("name", name) for name in range(many)]
+    if deep == 1:
+        return leaves
+    less = all_forms(many, deep - 1)
+    told = leaves + [("not", form) for form in less]
+    return told + [(word, one, other) for word in ("and", "or", "xor") for one in less for other in less]
+
+
 def power_rule(degree):
     """The first name, so many times a factor, by twos, so that it stays flat."""
     if degree == 0:
@@ -335,6 +417,41 @@ def plain_spread(p, table, point):
     return sum(entry * plain_weight(p, row, point) for entry, row in zip(table, rows)) % p
 
 
+def all_lines(p, degree):
+    """All lines of at most a degree."""
+    return [plain_trim(numbers) for numbers in product(range(p), repeat=degree + 1)]
+
+
+def most_passes(p, degrees, ahead, judge, state=lambda draws: draws):
+    """At how many of all rows of draws whoever answers best passes, by trying all lines in each round.
+
+    judge(lines, draws) tells as [13] does; so many numbers are drawn ahead of the first line. What the judge hears
+    later may hang on state(draws), of the draws so far, and on the claim so far, but on nothing else."""
+    known = {}
+    longest = ahead + len(degrees)
+
+    def rest(draws):
+        return draws + (0,) * (longest - len(draws))
+
+    def passes(lines, draws, claim):
+        done = len(lines)
+        if len(draws) < ahead:
+            return sum(passes(lines, draws + (draw,), claim) for draw in range(p))
+        if done == len(degrees):
+            return 1 if judge(lines, draws) == ("passed",) else 0
+        key = (done, state(draws), claim)
+        if key not in known:
+            known[key] = max([0] + [
+                sum(passes(lines + (line,), draws + (draw,), plain_value(p, line, draw)) for draw in range(p))
+                for line in all_lines(p, degrees[done]) if heard(lines + (line,), rest(draws))])
+        return known[key]
+
+    def heard(lines, draws):
+        told = judge(lines, draws)
+        return told == ("passed",) or told[1] >= len(lines)
+    return passes((), (), None)
+
+
 class PointCase(unittest.TestCase):
     """A test case that compares kinds too and sees to it that nothing handed in is changed."""
 
@@ -361,3 +478,43 @@ class PointCase(unittest.TestCase):
             for field, value in fields.items():
                 self.assertEqual(exact(getattr(caught, field)), exact(value), about)
             self.assertEqual(repr(handed), before)
+
+    def first_errors(self, calls):
+        """Of several wrong arguments the first one is told.
+
+        A call is (function, right arguments, for each argument wrong values and the name of their error, if any)."""
+        for function, right, wrong in calls:
+            self.assertEqual(len(right), len(wrong), function.__name__)
+            for many in range(1, len(right) + 1):
+                for which in combinations(range(len(right)), many):
+                    first = wrong[which[0]][1]
+                    if first is not None:
+                        self.first_error(function, right, wrong, which, getattr(errors, first))
+
+    def first_error(self, function, right, wrong, which, kind):
+        for turn in range(max(len(wrong[k][0]) for k in which)):
+            handed = list(right)
+            for k in which:
+                values = wrong[k][0]
+                handed[k] = values[(turn + k) % len(values)]
+            self.fails(kind, {}, function, *handed)
+
+    def same_backward(self, calls):
+        """Pairs (function, arguments) have equal answers in whatever order they are called."""
+        first = [exact(function(*handed)) for function, handed in calls]
+        backward = [exact(function(*handed)) for function, handed in reversed(calls)]
+        self.assertEqual(first, list(reversed(backward)))
+
+    def nothing_left_behind(self, calls):
+        """Calls that raise errors change no later answer; calls are told as in first_errors."""
+        for function, right, wrong in calls:
+            before = exact(function(*right))
+            for k, (values, _) in enumerate(wrong):
+                for value in values:
+                    handed = list(right)
+                    handed[k] = value
+                    try:
+                        function(*handed)
+                    except errors.PointError:
+                        pass
+            self.assertEqual(exact(function(*right)), before)

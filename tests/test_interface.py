@@ -28,6 +28,22 @@ ARGUMENTS = {
         "chances": "claimed answerer",
     },
     "talks": {"write_talk": "p lines draws", "read_talk": "p text", "heard": "claimed text"},
+    "forms": {
+        "form_of": "names text", "form_text": "names form", "solutions": "many form", "form_rule": "p form",
+        "count_sum": "p many form claim",
+    },
+    "webs": {
+        "ties_table": "web", "walks_sum": "p web length claim", "triangles_sum": "p web claim", "walks": "web length",
+        "triangles": "web",
+    },
+    "products": {
+        "product": "p one other sizes", "entry_sum": "p one other sizes point claim",
+        "product_judged": "p one other sizes claimed draws lines", "product_loss": "p sizes",
+    },
+    "marks": {
+        "is_marked": "value", "worth": "marked", "rounds_of": "marked", "marked_line": "marked draws",
+        "marked_judged": "marked lines draws", "marked_loss": "marked",
+    },
 }
 
 

@@ -1,10 +1,9 @@
 """Point [1]: the order of the errors of one call, and that calls leave nothing behind."""
 
 import unittest
-from itertools import combinations
 
 from pointsenough import answerers, errors, lines, numbers, rules, sums, tables, talks
-from tests.support import BIG, HUGE, PointCase, exact, power_rule
+from tests.support import BIG, HUGE, PointCase, power_rule
 
 LONGEST = (1,) * 200
 
@@ -83,20 +82,7 @@ CALLS = (
 
 class FirstErrorTest(PointCase):
     def test_several_wrong_arguments(self):
-        for function, right, wrong in CALLS:
-            for many in range(1, len(right) + 1):
-                for which in combinations(range(len(right)), many):
-                    first = wrong[which[0]][1]
-                    if first is not None:
-                        self.check(function, right, wrong, which, getattr(errors, first))
-
-    def check(self, function, right, wrong, which, kind):
-        for turn in range(max(len(wrong[k][0]) for k in which)):
-            handed = list(right)
-            for k in which:
-                values = wrong[k][0]
-                handed[k] = values[(turn + k) % len(values)]
-            self.fails(kind, {}, function, *handed)
+        self.first_errors(CALLS)
 
     def test_of_one_parameter_in_the_order_told(self):
         self.fails(errors.BadNumber, {}, numbers.inverse, 7, False)
@@ -149,22 +135,10 @@ class NothingKeptTest(PointCase):
         calls += [(function, ((11,) + SUM[1:],) + right[1:]) for function, right in calls if right[0] == SUM]
         calls += [(tables.row_of, (3, 5)), (tables.index_of, ((1, 0, 1),)), (numbers.is_prime, (7,))]
         calls += [(lines.at, (p, (1, 2, 3), 4)) for p in (5, 7, 11, BIG)]
-        first = [exact(function(*handed)) for function, handed in calls]
-        backward = [exact(function(*handed)) for function, handed in reversed(calls)]
-        self.assertEqual(first, list(reversed(backward)))
+        self.same_backward(calls)
 
     def test_errors_leave_nothing_behind(self):
-        for function, right, wrong in CALLS:
-            before = exact(function(*right))
-            for k, (values, _) in enumerate(wrong):
-                for value in values:
-                    handed = list(right)
-                    handed[k] = value
-                    try:
-                        function(*handed)
-                    except errors.PointError:
-                        pass
-            self.assertEqual(exact(function(*right)), before)
+        self.nothing_left_behind(CALLS)
 
 
 if __name__ == "__main__":

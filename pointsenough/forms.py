@@ -85,7 +85,7 @@ def solutions(many, form):
             return [joined_bits(word, left, right) for left, right in zip(below[0], below[1])]
         return [1 if word == "yes" else 0] * len(rows)
     values = form_folded(form, told)
-    return [row_of(many, row) for row in rows if values[row] == 1]
+    return [row_of(many, index) for index, yes in enumerate(values) if yes == 1]
 
 
 def form_rule(p, form):

@@ -303,6 +303,57 @@ def all_forms(many, deep):
     return told + [(word, one, other) for word in ("and", "or", "xor") for one in less for other in less]
 
 
+def program_for(inputs, sizes, seed):
+    """A program that looks drawn, with layers of these sizes."""
+    layers = []
+    ahead = inputs
+    for at, size in enumerate(sizes):
+        numbers = numbers_for(1000003, seed * 7 + at, 3 * size)
+        layers.append(tuple(
+            ("+*"[numbers[3 * k] % 2], numbers[3 * k + 1] % ahead, numbers[3 * k + 2] % ahead) for k in range(size)))
+        ahead = size
+    return (inputs, tuple(layers))
+
+
+def drawn_programs():
+    shapes = (
+        (1, (1,)), (1, (2,)), (2, (1,)), (2, (2,)), (4, (1,)), (8, (1,)), (8, (8,)), (1, (8,)), (4, (4,)), (2, (1, 1)),
+        (2, (2, 1)), (1, (1, 1, 1)), (4, (2, 1)), (8, (4, 2, 1)), (1, (2, 4, 8)), (2, (4, 1, 2)), (1, (8, 8)), (8, (1, 8)),
+        (2, (1, 2, 1, 2, 1, 2)), (4, (4, 4, 4, 4, 4, 4)))
+    return [program_for(inputs, sizes, seed) for seed, (inputs, sizes) in enumerate(shapes)]
+
+
+def plain_run(p, program, inputs):
+    """The values of a program's inputs and layers."""
+    told = [tuple(inputs)]
+    for gates in program[1]:
+        last = told[-1]
+        told.append(tuple((last[a] + last[b] if sign == "+" else last[a] * last[b]) % p for sign, a, b in gates))
+    return told
+
+
+def bits(size):
+    """How many names a table of so many numbers has."""
+    return {1: 0, 2: 1, 4: 2, 8: 3, 16: 4, 32: 5, 64: 6, 128: 7, 256: 8, 512: 9, 1024: 10}[size]
+
+
+def wrong_programs():
+    """What is no program."""
+    one, two = (("+", 0, 1),), (("+", 0, 1), ("*", 1, 0))
+    told = any_values() + bad_tuples() + [0, 1, HUGE, (), (2,), (2, (one,), ()), [2, (one,)], {2: (one,)}, ((one,), 2)]
+    told += [(2, ()), (2, one), (2, [one]), (2, {0: one}), (2, None), (2, "layer"), (2, 1), "inputs 2\nlayer 0+1\n"]
+    told += [(inputs, (one,)) for inputs in any_values() + bad_tuples() + [-HUGE, -2, 0, 3, 5, 6, 7, 9, 16, HUGE, "2", (2,)]]
+    told += [(1, (one,)), (2, (one,) * 7), (1, ((("+", 0, 0),),) * 7), (2, (one, one)), (2, (one, two)), (True, ((("+", 0, 0),),))]
+    told += [(2, (gates,)) for gates in any_values() + bad_tuples() + [(), [("+", 0, 1)], {0: 1}, "0+1", 0, ("+", 0, 1)]]
+    told += [(2, (one * many,)) for many in (0, 3, 5, 6, 7, 9, 16)]
+    bad = [(), ("+",), ("+", 0), ("+", 0, 1, 1), ["+", 0, 1], ("-", 0, 1), ("", 0, 1), ("++", 0, 1), ("+*", 0, 1), (0, "+", 1),
+           (None, 0, 1), (1, 0, 1), (["+"], 0, 1), ("plus", 0, 1), ("+", 2, 0), ("+", 0, 2), ("*", -1, 0), ("*", 0, -1),
+           ("+", True, 0), ("+", 0, False), ("+", None, 0), ("+", 0, "1"), ("+", (0,), 1), ("+", 0, [1]), ("+", HUGE, 0),
+           {"+": 0}, "0+1", None, 0, ("+", {}, 0), (("+",), 0, 1)]
+    told += [(2, ((gate,),)) for gate in bad] + [(2, ((("+", 0, 1), gate),)) for gate in bad]
+    return told + [(2, (two, (gate,))) for gate in bad] + [(4, (one, (("+", 0, 1),))), (8, (one, two))]
+
+
 def power_rule(degree):
     """The first name, so many times a factor, by twos, so that it stays flat."""
     if degree == 0:

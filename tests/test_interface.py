@@ -44,6 +44,21 @@ ARGUMENTS = {
         "is_marked": "value", "worth": "marked", "rounds_of": "marked", "marked_line": "marked draws",
         "marked_judged": "marked lines draws", "marked_loss": "marked",
     },
+    "programs": {
+        "program_of": "text", "program_text": "program", "layers_of": "p program inputs", "wires": "program layer sign",
+        "layer_sum": "p program layer point below claim",
+    },
+    "layers": {
+        "between": "p one other place", "along": "p table one other", "program_draws": "program",
+        "program_rounds": "program", "program_lines": "p program inputs draws",
+        "program_judged": "p program inputs outputs lines draws", "program_loss": "p program",
+    },
+    "joins": {
+        "joined": "p sums draws", "joined_loss": "p sums", "nought_sum": "p many rule point", "nought_loss": "p many rule",
+    },
+    "bags": {
+        "is_same_bag": "one other", "packed": "p triple w", "bag_product": "p bag z w", "bags_fooled": "p one other",
+    },
 }
 
 

@@ -1,7 +1,7 @@
 """Bags of triples, and the products by which two bags are compared."""
 
 from pointsenough.errors import BadBag, TooGreat
-from pointsenough.numbers import in_bounds, need_number, need_prime
+from pointsenough.numbers import need_number, need_prime, so_many_wholes
 
 MOST_TRIPLES = 200
 GREATEST_TRIED = 101
@@ -27,7 +27,7 @@ def bag_product(p, bag, z, w):
     need_bag(p, bag)
     need_number(p, z)
     need_number(p, w)
-    return product_at(p, [packed_at(p, triple, w) for triple in bag], z)
+    return bag_product_at(p, bag, z, w)
 
 
 def bags_fooled(p, one, other):
@@ -47,10 +47,7 @@ def bags_fooled(p, one, other):
 
 def fits_triple(p, triple):
     """Whether any value is a triple of numbers, or of integers from 0 on where p is None."""
-    if not isinstance(triple, tuple) or len(triple) != 3:
-        return False
-    most = None if p is None else p - 1
-    return all([in_bounds(item, 0, most) for item in triple])
+    return so_many_wholes(p, triple, 3)
 
 
 def fits_bag(p, bag):
@@ -70,6 +67,11 @@ def packed_at(p, triple, w):
     """The number of a triple, nothing being checked."""
     cell, value, time = triple
     return (cell + (value + time * w) * w) % p
+
+
+def bag_product_at(p, bag, z, w):
+    """The product of z - packed over a bag's triples, nothing being checked."""
+    return product_at(p, [packed_at(p, triple, w) for triple in bag], z)
 
 
 def product_at(p, numbers, z):

@@ -72,15 +72,7 @@ def through(p, points):
     """The line of least degree through pairs (place, value)."""
     need_prime(p)
     need_points(p, points)
-    line = ()
-    # vanishing is 0 at all places that the line already goes through: adding it spoils none of them.
-    vanishing = (1,)
-    for place, number in points:
-        lack = (number - value_at(p, line, place)) % p
-        factor = lack * inverse_of(p, value_at(p, vanishing, place)) % p
-        line = mixed(p, line, vanishing, factor)
-        vanishing = multiplied(p, vanishing, nought_at(p, place))
-    return line
+    return line_through(p, points)
 
 
 def with_noughts(p, places):
@@ -155,6 +147,19 @@ def trimmed(numbers):
     while length > 0 and numbers[length - 1] == 0:
         length -= 1
     return tuple(numbers[:length])
+
+
+def line_through(p, points):
+    """The line of least degree through pairs (place, value) of unlike places, nothing being checked."""
+    line = ()
+    # vanishing is 0 at all places that the line already goes through: adding it spoils none of them.
+    vanishing = (1,)
+    for place, number in points:
+        lack = (number - value_at(p, line, place)) % p
+        factor = lack * inverse_of(p, value_at(p, vanishing, place)) % p
+        line = mixed(p, line, vanishing, factor)
+        vanishing = multiplied(p, vanishing, nought_at(p, place))
+    return line
 
 
 def value_at(p, line, place):

@@ -57,6 +57,14 @@ def so_many_numbers(p, value, many):
     return all_numbers(p, value, many) and len(value) == many
 
 
+def so_many_wholes(p, value, many):
+    """Whether any value is a tuple of just so many numbers, or of integers from 0 on where p is None."""
+    if not isinstance(value, tuple) or len(value) != many:
+        return False
+    most = None if p is None else p - 1
+    return all([in_bounds(item, 0, most) for item in value])
+
+
 def ascends(items):
     """Whether each item of a list or tuple is greater than the one ahead of it."""
     return all([one < other for one, other in zip(items, items[1:])])

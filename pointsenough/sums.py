@@ -158,10 +158,14 @@ def wrong_word(p, line, degree, claim):
 def rounds_heard(claimed, lines, draws):
     """The pair (claims so far, word) of as many rounds as draws: the word of the first wrong one, "" if none is."""
     p, many, rule, claim = claimed
+    return heard_by_degrees(p, told_degrees(many, rule), claim, lines, draws)
+
+
+def heard_by_degrees(p, degrees, claim, lines, draws):
+    """The pair (claims so far, word) of rounds of such degrees, as many as draws, told as rounds_heard tells it."""
     told = [claim]
     if not isinstance(lines, (tuple, list)):
         return told, "line"
-    degrees = told_degrees(many, rule)
     for index, draw in enumerate(draws):
         line = line_heard(lines, index)
         word = wrong_word(p, line, degrees[index], told[-1])

@@ -97,14 +97,7 @@ def spread_noughts(p, table):
 def behind(p, one, other):
     """The spread of following: 1 where other is the row of the index one more, 0 at other rows."""
     need_two_points(p, one, other)
-    # One more turns the last 0 to 1 and the ones behind it to 0; what is ahead of it stays.
-    result = 0
-    all_turned = 1
-    for left, right in reversed(list(zip(one, other))):
-        turned_here = all_turned * (1 - left) * right
-        result = (result * like_at(p, left, right) + turned_here) % p
-        all_turned = all_turned * left * (1 - right) % p
-    return result
+    return behind_at(p, one, other)
 
 
 def fits_table(p, value):
@@ -146,6 +139,18 @@ def names_of(table):
 def like_at(p, left, right):
     """The likeness of two numbers, of degree 1 in each: 1 for like bits, 0 for unlike ones."""
     return (left * right + (1 - left) * (1 - right)) % p
+
+
+def behind_at(p, one, other):
+    """The spread of following at two points of one length, nothing being checked."""
+    # One more turns the last 0 to 1 and the ones behind it to 0; what is ahead of it stays.
+    result = 0
+    all_turned = 1
+    for left, right in reversed(list(zip(one, other))):
+        turned_here = all_turned * (1 - left) * right
+        result = (result * like_at(p, left, right) + turned_here) % p
+        all_turned = all_turned * left * (1 - right) % p
+    return result
 
 
 def held_at(p, table, number):

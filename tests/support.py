@@ -354,6 +354,149 @@ def wrong_programs():
     return told + [(2, (two, (gate,))) for gate in bad] + [(4, (one, (("+", 0, 1),))), (8, (one, two))]
 
 
+def machine_rows(seed, many):
+    """So many rows of a machine's text that look drawn."""
+    told = []
+    for at in range(many):
+        kind, one, other, big = numbers_for(1000003, seed * 11 + at, 4)
+        one, other = "abc"[one % 3], "abc"[other % 3]
+        number = big if kind % 5 else big % 3
+        told.append((
+            f"set {one} {number % 1000001}", f"add {one} {other}", f"mul {one} {other}", f"goto {big % 8}",
+            f"ifnought {one} {big % 8}", f"add {one} {other}", f"mul {one} {other}", f"ifnought {one} {big % 8}", "halt",
+        )[kind % 9])
+    return told
+
+
+def drawn_machines():
+    """The texts of machines, some that look drawn and some of each word alone."""
+    told = ["".join(row + "\n" for row in machine_rows(seed, 1 + seed % 8)) for seed in range(24)]
+    told += ["halt\n", "halt\n" * 8, "goto 0\n", "goto 7\n", "add a b\nhalt\n", "ifnought a 0\nhalt\n", "ifnought c 7\n"]
+    told += ["set a 1000000\nset b 0\nset c 10\n", "add a a\ngoto 0\n", "mul c c\nmul c c\nmul b b\n", "add c a\n" * 8]
+    told += ["set b 1\nifnought a 5\nmul b a\nadd a c\ngoto 1\n", "halt\nadd a a\n", "goto 2\nhalt\nadd b c\ngoto 1\n"]
+    return told
+
+
+def plain_step(p, rows, standing):
+    """The standing behind a standing, by the words of a machine's rows as texts."""
+    row, *cells = standing
+    words = (rows[row] if row < len(rows) else "halt").split()
+    cell = dict(zip("abc", cells))
+    after = row + 1
+    if words[0] == "set":
+        cell[words[1]] = int(words[2])
+    elif words[0] == "add":
+        cell[words[1]] = cell[words[1]] + cell[words[2]]
+    elif words[0] == "mul":
+        cell[words[1]] = cell[words[1]] * cell[words[2]]
+    elif words[0] == "goto":
+        after = int(words[1])
+    elif words[0] == "ifnought":
+        after = int(words[2]) if cell[words[1]] == 0 else after
+    else:
+        after = row
+    return (0 if after == 8 else after,) + tuple(cell[name] % p for name in "abc")
+
+
+def plain_stands(p, text, first, many):
+    """So many standings of a machine's text, from row 0 on."""
+    rows = text.splitlines()
+    told = [(0, *first)]
+    while len(told) < many:
+        told.append(plain_step(p, rows, told[-1]))
+    return told
+
+
+def plain_entries(p, rows, standing):
+    """The sixteen entries of a standing with its next one."""
+    after = plain_step(p, rows, standing)
+    words = (rows[standing[0]] if standing[0] < len(rows) else "halt").split()
+    x = standing[1 + "abc".index(words[1])] if words[0] == "ifnought" else 0
+    bits = [[int(sign) for sign in f"{row:03b}"] for row in (standing[0], after[0])]
+    return (*bits[0], *standing[1:], *bits[1], *after[1:], 1 if x == 0 else 0, pow(x, p - 2, p), x, 0)
+
+
+def plain_sealed(p, text, first, names):
+    """The sixteen columns of the plain run of a machine's text."""
+    rows = text.splitlines()
+    return tuple(zip(*[plain_entries(p, rows, standing) for standing in plain_stands(p, text, first, 2 ** names)]))
+
+
+def plain_row_rules(p, text, entries):
+    """The values of the fourteen rules of a machine's text at sixteen numbers, by the words of the document."""
+    rows = [row.split() for row in text.splitlines()]
+    rows += [["halt"]] * (8 - len(rows))
+    cells = dict(zip("abc", entries[3:6]))
+    after = dict(zip("abc", entries[9:12]))
+    is_nought, inv, x = entries[12:15]
+
+    def f(told):
+        return plain_spread(p, [told(at, row) for at, row in enumerate(rows)], entries[:3])
+    told = [bit * bit - bit for bit in entries[:3] + entries[6:9]]
+    told.append(x - sum(f(lambda at, row: int(row[:2] == ["ifnought", name])) * cells[name] for name in "abc"))
+    told += [x * inv - (1 - is_nought), x * is_nought, is_nought * is_nought - is_nought]
+    for name in "abc":
+        made = f(lambda at, row: int(row[:2] != ["set", name])) * cells[name]
+        made += f(lambda at, row: int(row[2]) % p if row[:2] == ["set", name] else 0)
+        for other in "abc":
+            made += f(lambda at, row: int(row == ["add", name, other])) * cells[other]
+            made += f(lambda at, row: int(row == ["mul", name, other])) * (cells[other] * cells[name] - cells[name])
+        told.append(after[name] - made)
+
+    def follows(at, row):
+        return int(row[1]) if row[0] == "goto" else at if row[0] == "halt" else (at + 1) % 8
+    next_row = 4 * entries[6] + 2 * entries[7] + entries[8] - f(follows)
+    jump = f(lambda at, row: int(row[2]) - follows(at, row) if row[0] == "ifnought" else 0)
+    told.append(next_row - jump * is_nought)
+    return tuple(number % p for number in told)
+
+
+def wrong_sealed(p, names):
+    """What is no sealed run by p; what is bent has so many names."""
+    size = 2 ** names
+    table = tuple(at % p for at in range(size))
+    right = (table,) * 16
+    told = any_values() + bad_tuples() + [0, HUGE, (), table, list(right), dict(enumerate(right)), right[:15], right + (table,)]
+    told += [right[:1], ((1,) * 32,) * 16, ((1,) * 1024,) * 16, ((1, 2, 3),) * 16, ((),) * 16, (1,) * 16, "0123456789abcdef"]
+    others = [(1,) * other for other in (1, 2, 4, 8, 16, 32) if other != size]
+    for wrong in any_values() + others + [(), list(table), table + (1,), table[:-1] + (p,), table[:-1] + (-1,), table[:-1] + (True,)]:
+        told += [(wrong,) + right[1:], right[:15] + (wrong,), right[:7] + (wrong,) + right[8:]]
+    return told
+
+
+def wrong_great_primes():
+    """What is no prime for machines."""
+    return wrong_primes() + [5, 7]
+
+
+def wrong_machines():
+    """What is no machine."""
+    halt = ("halt",)
+    told = any_values() + bad_tuples() + [0, 1, HUGE, (), "halt\n", (halt,), (halt,) * 7, (halt,) * 9, [halt] * 8, (halt,) * 16]
+    rows = any_values() + bad_tuples() + [
+        0, (), "halt", ["halt"], ("Halt",), ("",), ("halt", 0), ("halt", ()), ("stop",), ("set",), ("set", 0), ("set", 0, 1, 2),
+        ["set", 0, 1], ("set", 3, 1), ("set", -1, 1), ("set", 0, -1), ("set", 0, 1000001), ("set", 0, HUGE),
+        ("set", True, 1), ("set", 0, True), ("set", "a", 1), ("set", 0, "1"), ("set", None, 1), ("set", 0, None),
+        ("set", (0,), 1), ("set", 0, (1,)), ("add", 0), ("add", 0, 3), ("add", 3, 0), ("add", 0, -1), ("add", 0, False),
+        ("add", "a", "b"), ("add", 0, 1, 2), ("mul", 0, 3), ("mul", 3, 0), ("mul", 0), ("mul", False, 0), ("mul", 0, [1]),
+        ("goto",), ("goto", 8), ("goto", -1), ("goto", True), ("goto", "1"), ("goto", None), ("goto", 0, 1), ("goto", (1,)),
+        ("ifnought", 0), ("ifnought", 3, 0), ("ifnought", 0, 8), ("ifnought", 0, -1), ("ifnought", 0, True),
+        ("ifnought", True, 0), ("ifnought", "a", 1), ("ifnought", 0, 1, 2), (halt,), ("sub", 0, 1), (None, 0, 1),
+        (["set"], 0, 1), ({}, 0), (b"halt",), (("halt",),), {"halt": ()}, ("set a 1",), ("goto 1",),
+    ]
+    told += [(row,) + (halt,) * 7 for row in rows] + [(halt,) * 7 + (row,) for row in rows]
+    return told + [(halt,) * 3 + (row,) + (halt,) * 4 for row in rows[::3]]
+
+
+def wrong_triples_of(p):
+    """What is no triple of numbers."""
+    told = any_values() + bad_tuples() + [0, 1, HUGE, (), (1, 2), (1, 2, 3, 4), [1, 2, 3], {1: 1, 2: 2, 3: 3}, "123"]
+    told += [((1, 2, 3),)]
+    for wrong in wrong_numbers(p):
+        told += [(wrong, 1, 2), (1, wrong, 2), (1, 2, wrong)]
+    return told
+
+
 def power_rule(degree):
     """The first name, so many times a factor, by twos, so that it stays flat."""
     if degree == 0:

@@ -59,6 +59,21 @@ ARGUMENTS = {
     "bags": {
         "is_same_bag": "one other", "packed": "p triple w", "bag_product": "p bag z w", "bags_fooled": "p one other",
     },
+    "memories": {
+        "is_true_log": "first deeds last", "put_bag": "first deeds", "taken_bag": "deeds last", "late": "deeds",
+        "log_judged": "p first deeds last z w", "log_loss": "p first deeds", "mended_log": "first deeds",
+    },
+    "machines": {
+        "machine_of": "text", "machine_text": "machine", "stand_after": "p machine standing",
+        "run_of": "p machine first names",
+    },
+    "seals": {
+        "sealed_run": "p machine first names", "ask": "p sealed column point", "row_rules": "p machine",
+    },
+    "runs": {
+        "run_draws": "names", "run_rounds": "names", "run_lines": "p machine sealed draws",
+        "run_judged": "p machine first result sealed lines draws", "run_loss": "p names",
+    },
 }
 
 

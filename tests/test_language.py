@@ -130,6 +130,48 @@ class LanguageTest(unittest.TestCase):
                     self.assertNotIn(node.id, taken, path.name)
                 if isinstance(node, ast.arg):
                     self.assertNotIn(node.arg, taken, path.name)
+                if isinstance(node, (ast.MatchAs, ast.MatchStar)):
+                    self.assertNotIn(node.name, taken, path.name)
+
+    def test_captured_names_are_no_parameters_and_no_builtins(self):
+        for where, _, function in self.nodes():
+            if isinstance(function, ast.FunctionDef):
+                nodes = list(ast.walk(function))
+                captured = {node.name for node in nodes if isinstance(node, (ast.MatchAs, ast.MatchStar))} - {None}
+                other = {node.arg for node in nodes if isinstance(node, ast.arg)}
+                other |= {node.id for node in nodes if isinstance(node, ast.Name) and isinstance(node.ctx, ast.Store)}
+                self.assertEqual(captured & (other | set(dir(builtins))), set(), where)
+
+    def test_nothing_is_reckoned_at_module_level(self):
+        for path, tree in self.trees.items():
+            for statement in tree.body:
+                if isinstance(statement, ast.Assign):
+                    for node in ast.walk(statement.value):
+                        plain = (ast.Constant, ast.Tuple, ast.List, ast.Dict, ast.Name, ast.Load, ast.UnaryOp, ast.USub)
+                        self.assertIsInstance(node, plain, (path.name, statement.lineno))
+                else:
+                    kinds = (ast.FunctionDef, ast.ClassDef, ast.ImportFrom, ast.Expr)
+                    self.assertIsInstance(statement, kinds, (path.name, statement.lineno))
+
+    def test_lists_and_dicts_of_modules_are_not_passed_on(self):
+        for path, tree in self.trees.items():
+            kept = {target.id for statement in tree.body if isinstance(statement, ast.Assign)
+                    for target in statement.targets if isinstance(statement.value, (ast.List, ast.Dict))}
+            for node in ast.walk(tree):
+                if isinstance(node, ast.Call):
+                    handed = {item.id for item in node.args if isinstance(item, ast.Name)}
+                    if not isinstance(node.func, ast.Name) or node.func.id not in ("len", "list", "dict", "sorted"):
+                        self.assertEqual(handed & kept, set(), (path.name, node.lineno))
+
+    def test_barred_names(self):
+        barred = set("register mro elements open input law version_info with_traceback add_note".split())
+        barred_names = set("""
+            attrgetter breakpoint builtins compile copyright credits delattr dir eval exec exit gc globals help id importlib
+            license locals methodcaller os quit super type vars sys""".split())
+        for where, _, node in self.nodes():
+            for name in (getattr(node, "id", None), getattr(node, "arg", None), getattr(node, "name", None)):
+                self.assertNotIn(name, barred | barred_names, where)
+            self.assertNotIn(getattr(node, "attr", None), barred, where)
 
     def test_imports_are_used(self):
         for path, tree in self.trees.items():

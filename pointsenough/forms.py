@@ -4,15 +4,16 @@ from pointsenough.errors import BadForm, BadMany, BadNames, BadSum, NoForm
 from pointsenough.numbers import in_bounds, inverse_of, need_number, need_prime
 from pointsenough.sums import is_sum
 from pointsenough.tables import MOST_NAMES, row_of
-from pointsenough.texts import need_text
+from pointsenough.texts import LETTERS, need_text, words_in
 
-LETTERS = "abcdefghijklmnopqrstuvwxyz"
 MOST_LETTERS = 8
 KEYS = ("yes", "no", "not", "and", "or", "xor")
 JOINS = ("and", "or", "xor")
-# How much each word binds; what is no join and no "not" binds most of all.
-BINDS = {"or": 1, "xor": 1, "and": 2, "not": 3}
-BINDS_MOST = 4
+# How much each word of a tree binds, those of sayings too, which are forms over comparisons; leaves bind most of all.
+BINDS = {"or": 1, "xor": 1, "and": 2, "not": 3, "less": 4, "most": 4, "same": 4, "add": 5, "mul": 6}
+BINDS_MOST = 7
+# The words of a tree behind which no trees stand, but an index or an integer.
+LEAVES = ("name", "var", "whole")
 # How many items the tuples of a tree have.
 LENGTHS = {"yes": 1, "no": 1, "name": 2, "not": 2, "and": 3, "or": 3, "xor": 3}
 MOST_TUPLES = 200
@@ -57,16 +58,9 @@ def form_text(names, form):
     need_form(len(names), form)
 
     def told(part, below):
-        word = part[0]
-        if word == "name":
+        if part[0] == "name":
             return names[part[1]], BINDS_MOST
-        if word == "not":
-            return "not " + bracketed(below[0], BINDS[word]), BINDS[word]
-        if word in JOINS:
-            # As like ones are read from the left, the right one needs brackets even if it binds just as much.
-            one, other = bracketed(below[0], BINDS[word]), bracketed(below[1], BINDS[word] + 1)
-            return f"{one} {word} {other}", BINDS[word]
-        return word, BINDS_MOST
+        return part_text(part, below)
     return form_folded(form, told)[0]
 
 
@@ -76,14 +70,9 @@ def solutions(many, form):
     rows = list(range(1 << many))
 
     def told(part, below):
-        word = part[0]
-        if word == "name":
+        if part[0] == "name":
             return [row >> (many - 1 - part[1]) & 1 for row in rows]
-        if word == "not":
-            return [1 - value for value in below[0]]
-        if word in JOINS:
-            return [joined_bits(word, left, right) for left, right in zip(below[0], below[1])]
-        return [1 if word == "yes" else 0] * len(rows)
+        return [part_bit(part, [bits[row] for bits in below]) for row in rows]
     values = form_folded(form, told)
     return [row_of(many, index) for index, yes in enumerate(values) if yes == 1]
 
@@ -93,14 +82,7 @@ def form_rule(p, form):
     need_prime(p)
 
     def told(part, below):
-        word = part[0]
-        if word == "name":
-            return part
-        if word == "not":
-            return against(below[0])
-        if word in JOINS:
-            return joined_rule(p, word, below[0], below[1])
-        return ("number", 1) if word == "yes" else ("number", 0)
+        return part if part[0] == "name" else part_rule(p, part, below)
     return form_folded(form, told)
 
 
@@ -167,21 +149,7 @@ def fits_part(many, part):
 
 def parts_below(part):
     """The tuple of the trees that a tuple of a tree joins."""
-    return () if part[0] == "name" else part[1:]
-
-
-def words_in(text):
-    """The list of pairs (word, index): the runs of letters, and all other signs but blanks, each by itself."""
-    words = []
-    ahead = " "
-    for index, sign in enumerate(text):
-        if sign in LETTERS and ahead in LETTERS:
-            word, start = words.pop()
-            words.append((word + sign, start))
-        elif sign != " ":
-            words.append((sign, index))
-        ahead = sign
-    return words
+    return () if part[0] in LEAVES else part[1:]
 
 
 def leaf_of(names, word):
@@ -193,7 +161,7 @@ def leaf_of(names, word):
 
 def settle(trees, waiting, least):
     """Join the last trees by the words that wait since the last open bracket and bind at least so much."""
-    while waiting and waiting[-1] != "(" and BINDS[waiting[-1]] >= least:
+    while waiting and waiting[-1] in BINDS and BINDS[waiting[-1]] >= least:
         word = waiting.pop()
         last = trees.pop()
         trees.append(("not", last) if word == "not" else (word, trees.pop(), last))
@@ -218,17 +186,51 @@ def form_folded(form, told):
     return done[0]
 
 
-def bracketed(told, least):
+def bracketed(told, least, brackets):
     """The text of a pair (text, how much it binds), in brackets if it binds less than it must."""
     text, binds = told
-    return text if binds >= least else f"({text})"
+    return text if binds >= least else f"{brackets[0]}{text}{brackets[1]}"
 
 
-def joined_bits(word, left, right):
-    """What two bits joined by a word are."""
+def joined_text(word, below, sign, brackets):
+    """The pair (text, how much it binds) of two such pairs, joined by a word that is written as a sign."""
+    # As like ones are read from the left, the right one needs brackets even if it binds just as much.
+    one, other = bracketed(below[0], BINDS[word], brackets), bracketed(below[1], BINDS[word] + 1, brackets)
+    return f"{one} {sign} {other}", BINDS[word]
+
+
+def part_text(part, below):
+    """The pair (text, how much it binds) of a tuple that is no name, below being those of the trees that it joins."""
+    word = part[0]
+    if word == "not":
+        return "not " + bracketed(below[0], BINDS[word], "()"), BINDS[word]
+    if word in JOINS:
+        return joined_text(word, below, word, "()")
+    return word, BINDS_MOST
+
+
+def part_bit(part, below):
+    """1 if a tuple that is no name is yes, else 0, below being the same of the trees that it joins."""
+    word = part[0]
+    if word == "not":
+        return 1 - below[0]
     if word == "and":
-        return left & right
-    return left | right if word == "or" else left ^ right
+        return below[0] & below[1]
+    if word == "or":
+        return below[0] | below[1]
+    if word == "xor":
+        return below[0] ^ below[1]
+    return 1 if word == "yes" else 0
+
+
+def part_rule(p, part, below):
+    """The rule of a tuple that is no name, below being those of the trees that it joins."""
+    word = part[0]
+    if word == "not":
+        return against(below[0])
+    if word in JOINS:
+        return joined_rule(p, word, below[0], below[1])
+    return ("number", 1) if word == "yes" else ("number", 0)
 
 
 def against(rule):

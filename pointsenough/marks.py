@@ -63,15 +63,13 @@ def marked_judged(marked, lines, draws):
         return "caught", 0, "line"
     for index, draw in enumerate(draws):
         line = line_heard(lines, index)
-        word = line_word(p, line, rounds[index][2])
-        if word == "" and looked_at(p, line, rounds[index], numbers_drawn(rounds, draws[:index])) != so_far:
-            word = "rule"
+        word = round_word(p, rounds, draws[:index], line, so_far)
         if word != "":
             return "caught", index, word
         so_far = value_at(p, line, draw)
     if len(lines) > len(rounds):
         return "caught", len(rounds), "line"
-    if values_behind(p, rule, numbers_drawn(rounds, draws), 0)[0] != so_far:
+    if value_drawn(p, rule, rounds, draws) != so_far:
         return "caught", len(rounds), "end"
     return ("passed",)
 
@@ -114,6 +112,20 @@ def numbers_drawn(rounds, draws):
         else:
             numbers.append(draw)
     return tuple(numbers)
+
+
+def value_drawn(p, rule, rounds, draws):
+    """The value of a rule at the names' last numbers."""
+    return values_behind(p, rule, numbers_drawn(rounds, draws), 0)[0]
+
+
+def round_word(p, rounds, draws, line, so_far):
+    """The word for what is wrong with any value told as the line of the round behind draws, "" if nothing is."""
+    stage = rounds[len(draws)]
+    word = line_word(p, line, stage[2])
+    if word == "" and looked_at(p, line, stage, numbers_drawn(rounds, draws)) != so_far:
+        return "rule"
+    return word
 
 
 def marked_value(p, mark, low, high):

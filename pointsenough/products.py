@@ -3,7 +3,7 @@
 from pointsenough.errors import BadPoint, BadSizes, BadTable
 from pointsenough.numbers import in_bounds, loss_of, need_number, need_prime, so_many_numbers
 from pointsenough.sums import judged, need_draws
-from pointsenough.tables import names_of, need_table, spread_at
+from pointsenough.tables import fits_table, names_of, need_table, spread_at
 
 MOST_SIZE = 3
 
@@ -48,9 +48,22 @@ def product_loss(p, sizes):
     return loss_of(p, (1,) * (sizes[0] + sizes[2]) + (2,) * sizes[1])
 
 
+def fits_sizes(value):
+    """Whether any value is a triple of sizes."""
+    return isinstance(value, tuple) and len(value) == 3 and all([in_bounds(size, 0, MOST_SIZE) for size in value])
+
+
+def fits_product(p, one, other, sizes, claimed):
+    """Whether any values are two tables to be multiplied, their sizes, and a table that is claimed as the product."""
+    if not fits_sizes(sizes) or not all([fits_table(p, table) for table in (one, other, claimed)]):
+        return False
+    rows, between, columns = sizes
+    return [names_of(table) for table in (one, other, claimed)] == [rows + between, between + columns, rows + columns]
+
+
 def need_sizes(sizes):
     """Raise BadSizes for any value that is no triple of sizes."""
-    if not isinstance(sizes, tuple) or len(sizes) != 3 or not all([in_bounds(size, 0, MOST_SIZE) for size in sizes]):
+    if not fits_sizes(sizes):
         raise BadSizes()
 
 

@@ -15,12 +15,7 @@ def write_talk(p, lines, draws):
         raise BadLines()
     if not all_numbers(p, draws, len(lines)) or len(draws) < len(lines) - 1:
         raise BadDraws()
-    rows = []
-    for index, line in enumerate(lines):
-        rows.append(row_text("line", line))
-        if index < len(draws):
-            rows.append(row_text("draw", (draws[index],)))
-    return "".join(rows)
+    return talk_text(lines, draws)
 
 
 def read_talk(p, text):
@@ -46,6 +41,16 @@ def heard(claimed, text):
     if word != "":
         return "caught", len(told) - 1, word
     return "open", len(draws), told[-1]
+
+
+def talk_text(lines, draws):
+    """The text of lines and the draws behind them, nothing being checked."""
+    rows = []
+    for index, line in enumerate(lines):
+        rows.append(row_text("line", line))
+        if index < len(draws):
+            rows.append(row_text("draw", (draws[index],)))
+    return "".join(rows)
 
 
 def row_text(word, numbers):

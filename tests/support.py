@@ -303,6 +303,52 @@ def all_forms(many, deep):
     return told + [(word, one, other) for word in ("and", "or", "xor") for one in less for other in less]
 
 
+def wrong_vars():
+    """What are no vars."""
+    told = [value for value in any_values() + bad_tuples() if value != ()]
+    told += [0, 1, HUGE, "x", "x2", [("x", 2)], {"x": 2}, ("x", 2), (("x",),), (("x", 2, 3),), (["x", 2],), ("x2",), ((),)]
+    told += [((name, 2),) for name in any_values() + ["", "X", "x1", "x y", " x", "x_", "abcdefghi", "yes", "no", "not", "and", "or",
+                                                     "xor", 0, b"x", ("x",), "\u00e4"] if name != "x"]
+    told += [(("x", bits),) for bits in any_values() + bad_tuples() + [-1, 0, 5, 6, HUGE, "2", (2,)]]
+    told += [(("x", 1), ("x", 2)), (("x", 1), ("y", 1), ("x", 1)), tuple((name, 1) for name in "abcdef")]
+    told += [(("a", 4), ("b", 4), ("c", 3)), tuple((name, 2) for name in "abcde") + (("f", 1),)]
+    return told + [(("a", 3), ("b", 2), ("c", 2), ("d", 2), ("e", 2)), (("a", 4), ("b", 4), ("c", 4))]
+
+
+def wrong_sayings(given):
+    """What is no tree of a saying about so many vars."""
+    many = len(given)
+    so = ("less", ("whole", 1), ("whole", 2))
+    counts = any_values() + bad_tuples() + [
+        0, HUGE, (), "x", ("var",), ("var", many), ("var", -1), ("var", True), ("var", None), ("var", "x"), ("var", HUGE),
+        ("var", 0, 0), ["var", 0], ("whole",), ("whole", -1), ("whole", 100), ("whole", HUGE), ("whole", True), ("whole", "1"),
+        ("whole", 1, 1), ["whole", 1], ("number", 1), ("name", 0), ("add",), ("add", ("whole", 1)), ("yes",), ("no",), so,
+        ("add", ("whole", 1), ("whole", 1), ("whole", 1)), ("add", ("whole", 1), 1), ("mul", so, ("whole", 1)),
+        ("mul", ("whole", 1), ("yes",)), ["add", ("whole", 1), ("whole", 1)], ("sub", ("whole", 1), ("whole", 1)), ("not", so),
+        ("Var", 0), (None, 0), (["var"], 0), ("plus", ("whole", 1), ("whole", 1)), ("+", ("whole", 1), ("whole", 1)),
+    ]
+    forms = any_values() + bad_tuples() + [
+        0, HUGE, (), "yes", ["yes"], ("Yes",), ("yes", ()), ("name", 0), ("var", 0), ("whole", 1), ("add", ("whole", 1), ("whole", 1)),
+        ("not",), ("not", so, so), ("not", ("var", 0)), ("not", "yes"), ("and", so), ("and", so, so, so), ("and", so, ("whole", 1)),
+        ("or", ("var", 0), so), ("xor", so, "no"), ["and", so, so], ("less",), ("less", ("whole", 1)), ["less", *so[1:]],
+        ("less", ("whole", 1), ("whole", 1), ("whole", 1)), ("<", ("whole", 1), ("whole", 1)), ("least", ("whole", 1), ("whole", 2)),
+        ("more", ("whole", 1), ("whole", 2)), ("equal", ("whole", 1), ("whole", 2)), ("same", so, so), ("less", so, ("whole", 1)),
+        ("most", ("whole", 1), ("yes",)), (None, so, so), ({}, so), (b"yes",), (("yes",),), ((), ()),
+    ]
+    told = forms + [("not", form) for form in forms[::2]] + [("and", so, form) for form in forms[1::2]]
+    told += [("less", count, ("whole", 1)) for count in counts] + [("same", ("whole", 1), count) for count in counts[::2]]
+    told += [("most", ("add", ("whole", 1), count), ("whole", 2)) for count in counts[1::2]]
+    return told + [nots(400, YES), nots(399, so), shared_form(8), ("less", shared_count(8), ("whole", 1))]
+
+
+def shared_count(times):
+    """A count of few objects that has 2 ** (times + 1) - 1 tuples (beware of showing great ones)."""
+    count = ("whole", 1)
+    for _ in range(times):
+        count = ("add", count, count)
+    return count
+
+
 def program_for(inputs, sizes, seed):
     """A program that looks drawn, with layers of these sizes."""
     layers = []

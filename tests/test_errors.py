@@ -26,6 +26,10 @@ class ErrorsTest(unittest.TestCase):
     def test_how_many(self):
         self.assertEqual(len(set(WITHOUT_FIELDS) | set(WITH_FIELD)), 58)
 
+    def test_there_are_no_others(self):
+        told = {name for name, value in vars(errors).items() if isinstance(value, type)}
+        self.assertEqual(told, {"PointError"} | set(WITHOUT_FIELDS) | set(WITH_FIELD))
+
     def test_each_is_a_direct_subclass_of_its_own_file(self):
         for name in WITHOUT_FIELDS + list(WITH_FIELD):
             kind = getattr(errors, name)

@@ -1,7 +1,10 @@
 """The interface: each function stands in the file under which the document lists it, with its arguments."""
 
+import doctest
 import importlib
+import re
 import unittest
+from pathlib import Path
 
 ARGUMENTS = {
     "numbers": {"is_prime": "value", "inverse": "p number", "power": "p number times"},
@@ -70,6 +73,20 @@ ARGUMENTS = {
     "seals": {
         "sealed_run": "p machine first names", "ask": "p sealed column point", "row_rules": "p machine",
     },
+    "sheets": {
+        "sheet_of": "text", "sheet_text": "sheet", "led_claim": "sheet name", "claim_loss": "sheet name",
+        "is_claim_so": "sheet name",
+    },
+    "sayings": {
+        "saying_of": "given text", "saying_text": "given saying", "saying_holds": "given saying values",
+        "saying_rule": "p given saying", "saying_sum": "p given saying claim",
+        "saying_marked": "p given marks saying claim",
+    },
+    "ruletexts": {"rule_text": "p many rule", "rule_of": "p many text"},
+    "cases": {
+        "is_case": "value", "case_draws": "case", "case_rounds": "case", "case_loss": "case", "case_lines": "case draws",
+        "case_judged": "case lines draws", "case_text": "case lines draws", "read_case": "text",
+    },
     "runs": {
         "run_draws": "names", "run_rounds": "names", "run_lines": "p machine sealed draws",
         "run_judged": "p machine first result sealed lines draws", "run_loss": "p names",
@@ -77,7 +94,36 @@ ARGUMENTS = {
 }
 
 
+DESK = {
+    "state": "name", "hear": "name line draw", "answer": "name draw", "loss": "", "asked": "", "undo": "", "talk": "name",
+    "open_names": "",
+}
+
+
 class InterfaceTest(unittest.TestCase):
+    def test_the_desk_and_its_methods(self):
+        desks = importlib.import_module("pointsenough.desks")
+        self.assertEqual((desks.Desk.__module__, desks.Desk.__name__), ("pointsenough.desks", "Desk"))
+        for name, arguments in [("__init__", "sheet"), *DESK.items()]:
+            code = vars(desks.Desk)[name].__code__
+            self.assertEqual(code.co_varnames[:code.co_argcount], ("self", *arguments.split()), name)
+
+    def test_columns(self):
+        self.assertEqual(len(importlib.import_module("pointsenough.seals").COLUMNS), 16)
+
+    def test_examples_of_the_document(self):
+        document = Path(__file__).resolve().parent.parent.parent / "shared" / "DOC.md"
+        if not document.is_file():
+            self.skipTest("the document isn't here")
+        interface = document.read_text(encoding="utf-8").partition("# The interface")[2]
+        blocks = re.findall("```\n(.*?)```", interface, re.S)
+        self.assertGreater(len(blocks), 20)
+        for block in blocks:
+            test = doctest.DocTestParser().get_doctest(block, {}, "DOC.md", None, None)
+            told = []
+            doctest.DocTestRunner(verbose=False).run(test, out=told.append)
+            self.assertEqual("".join(told), "")
+
     def test_functions_and_their_arguments(self):
         for file, functions in ARGUMENTS.items():
             module = importlib.import_module("pointsenough." + file)

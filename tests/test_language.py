@@ -20,6 +20,8 @@ repr any all divmod pow getattr hasattr setattr iter next map super property sta
 Exception ValueError TypeError KeyError IndexError LookupError ZeroDivisionError ArithmeticError OverflowError
 RuntimeError NotImplementedError AttributeError StopIteration NotImplemented
 """.split())
+# Whoever runs examples leaves the name "_" behind among the builtins, which is none of them.
+ALL_BUILTINS = set(dir(builtins)) - {"_"}
 FORBIDDEN = (ast.Global, ast.AsyncFunctionDef, ast.Await, ast.AsyncFor, ast.AsyncWith, ast.Div, ast.MatMult)
 
 
@@ -107,17 +109,17 @@ class LanguageTest(unittest.TestCase):
                     self.assertNotIn("%", node.value, where)
 
     def test_builtins(self):
-        barred = set(dir(builtins)) - USED_BUILTINS
+        barred = ALL_BUILTINS - USED_BUILTINS
         for where, path, node in self.nodes():
             if isinstance(node, ast.Name):
                 if path.name != "__main__.py" or node.id not in ("print", "__name__"):
                     self.assertNotIn(node.id, barred, where)
                 if isinstance(node.ctx, ast.Store):
-                    self.assertNotIn(node.id, dir(builtins), where)
+                    self.assertNotIn(node.id, ALL_BUILTINS, where)
             if isinstance(node, ast.arg):
-                self.assertNotIn(node.arg, dir(builtins), where)
+                self.assertNotIn(node.arg, ALL_BUILTINS, where)
             if isinstance(node, (ast.FunctionDef, ast.ClassDef)) and not node.name.startswith("__"):
-                self.assertNotIn(node.name, dir(builtins), where)
+                self.assertNotIn(node.name, ALL_BUILTINS, where)
 
     def test_locals_have_no_name_of_an_import_or_class(self):
         for path, tree in self.trees.items():
@@ -140,7 +142,7 @@ class LanguageTest(unittest.TestCase):
                 captured = {node.name for node in nodes if isinstance(node, (ast.MatchAs, ast.MatchStar))} - {None}
                 other = {node.arg for node in nodes if isinstance(node, ast.arg)}
                 other |= {node.id for node in nodes if isinstance(node, ast.Name) and isinstance(node.ctx, ast.Store)}
-                self.assertEqual(captured & (other | set(dir(builtins))), set(), where)
+                self.assertEqual(captured & (other | ALL_BUILTINS), set(), where)
 
     def test_nothing_is_reckoned_at_module_level(self):
         for path, tree in self.trees.items():

@@ -145,37 +145,38 @@ def led_to(sheet, claim):
     """What any value as a claim is led to by a sheet whose other parts are right, None if it is led to nothing."""
     if not isinstance(claim, tuple) or not claim or not isinstance(claim[0], str) or claim[0] not in CLAIMS:
         return None
-    word, p, number = claim[0], sheet["prime"], claim[-1]
-    many, part = CLAIMS[word]
-    if len(claim) != many or not isinstance(claim[1], str) or not in_bounds(number, 0, p - 1):
+    many, part = CLAIMS[claim[0]]
+    if len(claim) != many or not isinstance(claim[1], str) or not in_bounds(claim[-1], 0, sheet["prime"] - 1):
         return None
     thing = sheet[part].get(claim[1], None)
     if thing is None:
         return None
-    if word == "value":
-        return ("point", thing, claim[2], number) if so_many_numbers(p, claim[2], names_of(thing)) else None
-    if word == "holds":
-        return marked_led(sheet, thing, claim[2], number)
-    claimed = sum_led(sheet, word, thing, claim[2], number)
+    if claim[0] == "value":
+        fits = so_many_numbers(sheet["prime"], claim[2], names_of(thing))
+        return ("point", thing, claim[2], claim[-1]) if fits else None
+    if claim[0] == "holds":
+        marked = marked_led(sheet, thing, claim)
+        return ("marked", marked) if is_marked(marked) else None
+    claimed = sum_led(sheet, thing, claim)
     return ("sum", claimed) if is_sum(claimed) else None
 
 
-def sum_led(sheet, word, thing, length, number):
-    """The sum that a claim of a count is led to, None if its length is none of walks; it may be no sum."""
-    p = sheet["prime"]
+def sum_led(sheet, thing, claim):
+    """The sum of a claim about the count of something, which may be none; None for walks of no length that fits."""
+    word, p, number = claim[0], sheet["prime"], claim[-1]
     if word == "count":
         return p, len(sheet["names"]), form_rule(p, thing), number
     if word == "triangles":
         return walks_claimed(p, thing, 3, WALKS_OF_TRIANGLE * number % p)
-    return walks_claimed(p, thing, length, number) if in_bounds(length, LENGTHS[0], LENGTHS[-1]) else None
+    return walks_claimed(p, thing, claim[2], number) if in_bounds(claim[2], LENGTHS[0], LENGTHS[-1]) else None
 
 
-def marked_led(sheet, form, name, number):
-    """What a claim that a form holds by any value as marks is led to, None if it is led to nothing."""
+def marked_led(sheet, form, claim):
+    """The claim with marks of a claim that a form holds, which may be none; None for marks that aren't there."""
+    _, _, name, number = claim
     if not isinstance(name, str) or name not in sheet["marks"]:
         return None
-    marked = (sheet["prime"], sheet["marks"][name], form_rule(sheet["prime"], form), number)
-    return ("marked", marked) if is_marked(marked) else None
+    return sheet["prime"], sheet["marks"][name], form_rule(sheet["prime"], form), number
 
 
 def led_loss(led):
